@@ -1,0 +1,1 @@
+"""Points with few, or many, unlike distances."""

@@ -1,0 +1,154 @@
+"""The rules of LANGUAGE.md that can be seen file by file."""
+
+import ast
+import re
+import unittest
+from pathlib import Path
+
+PACKAGE = Path(__file__).resolve().parent.parent / "fewdistances"
+FILES = sorted(path for path in PACKAGE.rglob("*") if path.is_file() and "__pycache__" not in path.parts)
+
+BUILTINS = set(
+    "len range enumerate zip min max sum abs sorted reversed int str bool bytes list tuple dict set"
+    " frozenset isinstance ord repr any all divmod Exception ValueError TypeError KeyError IndexError"
+    " LookupError ZeroDivisionError ArithmeticError OverflowError RuntimeError NotImplementedError".split()
+)
+ALL_BUILTINS = set(dir(__import__("builtins")))
+METHODS = set(
+    "append clear copy count endswith extend find get index insert isalnum isalpha isdigit islower isspace"
+    " isupper items join keys ljust lower lstrip partition pop remove replace reverse rfind rjust rpartition"
+    " rsplit rstrip setdefault split splitlines startswith strip update upper values zfill bit_length"
+    " add discard sort isascii isdecimal".split()
+)
+BARRED_WORDS = re.compile(
+    r"\b(type|typing|typing_extensions|enum|Enum|IntEnum|StrEnum|Flag|IntFlag|Generic|Protocol|ABC|ABCMeta"
+    r"|namedtuple|NamedTuple|TypedDict|TYPE_CHECKING|abstractmethod)\b|dataclass|overload|contextmanager"
+)
+BARRED_NODES = (
+    ast.With, ast.Match, ast.Global, ast.Nonlocal, ast.Yield, ast.YieldFrom, ast.AsyncFunctionDef, ast.Await,
+    ast.GeneratorExp, ast.NamedExpr, ast.Div, ast.MatMult, ast.Import,
+)
+MODULE_NODES = (ast.ImportFrom, ast.FunctionDef, ast.ClassDef, ast.Assign)
+INNER_METHODS = ("__init__", "__eq__", "__repr__", "__str__", "__len__")
+
+
+def own_imports(tree):
+    return [node for node in tree.body if isinstance(node, ast.ImportFrom)]
+
+
+class FormTest(unittest.TestCase):
+
+    def setUp(self):
+        self.texts = {path: path.read_text("utf-8") for path in FILES}
+        self.trees = {path: ast.parse(text) for path, text in self.texts.items()}
+
+    def nodes(self, *kinds):
+        for path, tree in self.trees.items():
+            for node in ast.walk(tree):
+                if isinstance(node, kinds):
+                    yield f"{path.name}:{getattr(node, 'lineno', 0)}", node
+
+    def test_files(self):
+        self.assertIn(PACKAGE / "__init__.py", FILES)
+        for path in FILES:
+            self.assertEqual(path.parent, PACKAGE)
+            self.assertRegex(path.name, r"^([a-z][a-z0-9_]*|__init__)\.py$")
+            self.assertNotIn(path.stem, ALL_BUILTINS)
+
+    def test_characters_and_lengths(self):
+        for path, text in self.texts.items():
+            self.assertRegex(text, r"\A[ -~\n]*\Z", path.name)
+            lines = text.split("\n")
+            self.assertLessEqual(len(lines), 401, path.name)
+            self.assertLessEqual(max(map(len, lines)), 120, path.name)
+            self.assertIsNone(BARRED_WORDS.search(text), path.name)
+        for where, node in self.nodes(ast.FunctionDef):
+            self.assertLessEqual(node.end_lineno - node.lineno + 1, 40, where)
+
+    def test_module_level(self):
+        for path, tree in self.trees.items():
+            self.assertIsNotNone(ast.get_docstring(tree), path.name)
+            bound = []
+            for node in tree.body[1:]:
+                self.assertIsInstance(node, MODULE_NODES, path.name)
+                if isinstance(node, ast.ImportFrom):
+                    bound += [alias.asname or alias.name for alias in node.names]
+                elif isinstance(node, ast.Assign):
+                    ast.literal_eval(node.value)
+                    bound += [target.id for target in node.targets]
+                else:
+                    bound.append(node.name)
+            self.assertEqual(len(bound), len(set(bound)), path.name)
+
+    def test_imports_name_the_file_that_defines(self):
+        for path, tree in self.trees.items():
+            for node in own_imports(tree):
+                self.assertEqual(node.level, 0)
+                package, stem = node.module.split(".")
+                self.assertEqual(package, "fewdistances")
+                source = self.trees[PACKAGE / f"{stem}.py"]
+                defined = {item.name for item in source.body if isinstance(item, (ast.FunctionDef, ast.ClassDef))}
+                defined |= {item.targets[0].id for item in source.body if isinstance(item, ast.Assign)}
+                for alias in node.names:
+                    self.assertIn(alias.name, defined, path.name)
+
+    def test_imports_go_one_way(self):
+        needs = {path.stem: {node.module.split(".")[1] for node in own_imports(tree)}
+                 for path, tree in self.trees.items()}
+        done = set()
+        while len(done) < len(needs):
+            free = [stem for stem in needs if stem not in done and needs[stem] <= done]
+            self.assertTrue(free, "files import from each other")
+            done.update(free)
+
+    def test_nodes(self):
+        for where, node in self.nodes(*BARRED_NODES):
+            self.fail(f"{where}: {type(node).__name__}")
+        for where, node in self.nodes(ast.Starred):
+            self.assertIsInstance(node.ctx, ast.Store, where)
+        for where, node in self.nodes(ast.For, ast.While):
+            self.assertFalse(node.orelse, where)
+        for where, node in self.nodes(ast.Constant):
+            self.assertNotIsInstance(node.value, (float, complex), where)
+            if isinstance(node.value, str):
+                self.assertNotIn(chr(37), node.value, where)
+
+    def test_functions_and_classes(self):
+        for where, node in self.nodes(ast.FunctionDef):
+            self.assertFalse(node.decorator_list, where)
+            self.assertIsNone(node.args.vararg, where)
+            self.assertIsNone(node.args.kwarg, where)
+            self.assertFalse(node.args.posonlyargs, where)
+            if node.name.startswith("_"):
+                self.assertIn(node.name, INNER_METHODS, where)
+        for where, node in self.nodes(ast.ClassDef):
+            self.assertFalse(node.decorator_list, where)
+            self.assertLessEqual(len(node.bases), 1, where)
+
+    def test_names(self):
+        for where, node in self.nodes(ast.Name):
+            if isinstance(node.ctx, ast.Load):
+                self.assertTrue(node.id in BUILTINS or node.id not in ALL_BUILTINS, f"{where}: {node.id}")
+            else:
+                self.assertNotIn(node.id, ALL_BUILTINS, where)
+            self.assertFalse(node.id.startswith("_"), where)
+        for where, node in self.nodes(ast.arg):
+            self.assertNotIn(node.arg, ALL_BUILTINS, where)
+            self.assertFalse(node.arg.startswith("_"), where)
+
+    def test_methods_called(self):
+        own = {node.name for where, node in self.nodes(ast.FunctionDef)}
+        for where, node in self.nodes(ast.Call):
+            if isinstance(node.func, ast.Attribute):
+                self.assertIn(node.func.attr, METHODS | own, where)
+
+    def test_handlers_name_errors(self):
+        for where, node in self.nodes(ast.ExceptHandler):
+            self.assertIsNotNone(node.type, where)
+            for name in ast.walk(node.type):
+                if isinstance(name, ast.Name):
+                    self.assertNotIn(name.id, ("Exception", "TypeError", "BaseException"), where)
+
+
+if __name__ == "__main__":
+    unittest.main()
