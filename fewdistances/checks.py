@@ -23,3 +23,9 @@ def need_number(thing):
     """Refuse what is no whole number."""
     if not is_whole(thing):
         raise NoNumber("a whole number is needed")
+
+
+def need_within(thing, least, most):
+    """Refuse what is no whole number from least to most."""
+    if not is_within(thing, least, most):
+        raise NoNumber(f"a whole number from {least} to {most} is needed")

@@ -49,15 +49,20 @@ def far_of(one, other):
     return far_between(one, other)
 
 
+def pairs_by_far(points):
+    """Tell, of each far of points that have been looked at, the pairs that have it."""
+    # Of a lot the pairs come rising, so each list rises, and so do the firsts of the lists.
+    pairs = {}
+    for at, one in enumerate(points):
+        for other in points[at + 1:]:
+            pairs.setdefault(far_between(one, other), []).append((one, other))
+    return pairs
+
+
 def far_table(lot):
     """Tell the rising list of (far, how many pairs of the lot have it)."""
     need_lot(lot)
-    pairs = {}
-    for at, one in enumerate(lot):
-        for other in lot[at + 1:]:
-            far = far_between(one, other)
-            pairs[far] = pairs.get(far, 0) + 1
-    return sorted(pairs.items())
+    return sorted([(far, len(pairs)) for far, pairs in pairs_by_far(lot).items()])
 
 
 def fars(lot):

@@ -14,6 +14,12 @@ ODD_THINGS = (
 
 NOT_NUMBERS = ODD_THINGS + ((0, 0), (1,), [1], {1: 1}, ((0, 0),))
 
+
+def not_within(least, most):
+    """What is no number from least to most, wherever it is handed in."""
+    return NOT_NUMBERS + (least - 1, least - 2, -most, most + 1, most + 2, BIG, -BIG, 10 ** 30 - 1)
+
+
 NOT_POINTS = ODD_THINGS + (
     0, 1, BIG, (0,), (0, 0, 0), (True, 0), (0, True), (False, False),
     (0, None), (None, 0), ("0", 0), (0, "0"), ([0], 0), (0, (0,)), (0, {}),
@@ -72,3 +78,25 @@ def plain_threes(lot):
         (p, q, r) for p, q, r in permutations(lot, 3)
         if q < r and plain_far(p, q) == plain_far(p, r)
     )
+
+
+def plain_board(w, h):
+    return sorted((x, y) for x in range(w) for y in range(h))
+
+
+def plain_unlike(points):
+    """Whether no two pairs of the points have the same far."""
+    pairs = plain_pairs(points)
+    return len(set(pairs)) == len(pairs)
+
+
+def unlike_forty():
+    """An unlike lot of forty points, the same each time."""
+    some = []
+    k = 0
+    while len(some) < 40:
+        point = (k * k * 31 % 2001 - 1000, k * k * k * 17 % 1999 - 999)
+        if point not in some and plain_unlike(some + [point]):
+            some.append(point)
+        k += 1
+    return tuple(sorted(some))

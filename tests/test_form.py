@@ -29,6 +29,11 @@ BARRED_NODES = (
     ast.GeneratorExp, ast.NamedExpr, ast.Div, ast.MatMult, ast.Import,
 )
 MODULE_NODES = (ast.ImportFrom, ast.FunctionDef, ast.ClassDef, ast.Assign)
+BARRED_NAMES = set(
+    "register mro elements open input version_info with_traceback add_note attrgetter breakpoint builtins compile"
+    " copyright credits delattr dir eval exec exit gc getattr globals hasattr help id importlib license locals"
+    " methodcaller os quit setattr super type vars sys".split()
+)
 INNER_METHODS = ("__init__", "__eq__", "__repr__", "__str__", "__len__")
 
 
@@ -135,6 +140,36 @@ class FormTest(unittest.TestCase):
         for where, node in self.nodes(ast.arg):
             self.assertNotIn(node.arg, ALL_BUILTINS, where)
             self.assertFalse(node.arg.startswith("_"), where)
+
+    def test_barred_names(self):
+        for where, node in self.nodes(ast.Name, ast.arg, ast.FunctionDef, ast.ClassDef, ast.alias, ast.keyword):
+            names = [getattr(node, field, None) for field in ("id", "arg", "name", "asname")]
+            self.assertFalse(BARRED_NAMES.intersection(names), where)
+
+    def test_locals_hide_no_import_and_nothing_of_the_module(self):
+        for path, tree in self.trees.items():
+            taken = {alias.asname or alias.name for node in own_imports(tree) for alias in node.names}
+            taken |= {node.name for node in tree.body if isinstance(node, (ast.FunctionDef, ast.ClassDef))}
+            for function in ast.walk(tree):
+                if isinstance(function, (ast.FunctionDef, ast.Lambda)):
+                    for node in ast.walk(function):
+                        if isinstance(node, ast.arg):
+                            self.assertNotIn(node.arg, taken, f"{path.name}:{node.lineno}")
+                        elif isinstance(node, ast.Name) and isinstance(node.ctx, ast.Store):
+                            self.assertNotIn(node.id, taken, f"{path.name}:{node.lineno}")
+
+    def test_is_stands_with_none_and_truths_only(self):
+        for where, node in self.nodes(ast.Compare):
+            for sign, side in zip(node.ops, node.comparators):
+                if isinstance(sign, (ast.Is, ast.IsNot)):
+                    self.assertIsInstance(side, ast.Constant, where)
+                    self.assertIn(side.value, (None, True, False), where)
+
+    def test_powers_are_written_out(self):
+        for where, node in self.nodes(ast.BinOp):
+            if isinstance(node.op, ast.Pow):
+                self.assertIsInstance(node.right, ast.Constant, where)
+                self.assertIn(node.right.value, range(65), where)
 
     def test_methods_called(self):
         own = {node.name for where, node in self.nodes(ast.FunctionDef)}
