@@ -18,7 +18,7 @@ METHODS = set(
     "append clear copy count endswith extend find get index insert isalnum isalpha isdigit islower isspace"
     " isupper items join keys ljust lower lstrip partition pop remove replace reverse rfind rjust rpartition"
     " rsplit rstrip setdefault split splitlines startswith strip update upper values zfill bit_length"
-    " add discard sort isascii isdecimal".split()
+    " add discard sort isascii isdecimal removeprefix".split()
 )
 BARRED_WORDS = re.compile(
     r"\b(type|typing|typing_extensions|enum|Enum|IntEnum|StrEnum|Flag|IntFlag|Generic|Protocol|ABC|ABCMeta"
@@ -35,10 +35,48 @@ BARRED_NAMES = set(
     " methodcaller os quit setattr super type vars sys".split()
 )
 INNER_METHODS = ("__init__", "__eq__", "__repr__", "__str__", "__len__")
+# What is gone through on the spot, and what may go through it.
+PASSING = ("zip", "enumerate", "reversed", "range")
+PASSING_METHODS = ("items", "keys", "values")
+GOERS = ("list", "tuple", "dict", "sorted", "sum", "any", "all", "enumerate", "zip", "bytes", "min", "max")
+KEYWORDS = {"sorted": {"key", "reverse"}, "min": {"key", "default"}, "max": {"key", "default"}, "sum": {"start"},
+            "enumerate": {"start"}, "zip": {"strict"}}
 
 
 def own_imports(tree):
     return [node for node in tree.body if isinstance(node, ast.ImportFrom)]
+
+
+def is_plain(node, functions, depth=0):
+    """Whether a value of module level is plain: no list or dict within one, of functions those above only."""
+    if isinstance(node, ast.Constant):
+        return True
+    if isinstance(node, ast.UnaryOp):
+        return isinstance(node.op, ast.USub) and is_plain(node.operand, functions, depth)
+    if isinstance(node, ast.Name):
+        return depth > 0 and node.id in functions
+    if isinstance(node, ast.Tuple):
+        return all(is_plain(item, functions, depth + 1) for item in node.elts)
+    if depth == 0 and isinstance(node, ast.List):
+        return all(is_plain(item, functions, 1) for item in node.elts)
+    if depth == 0 and isinstance(node, ast.Dict):
+        return all(is_plain(item, functions, 1) for item in node.keys + node.values)
+    return False
+
+
+def called(node):
+    """The name of what a call calls."""
+    return getattr(node.func, "id", None) or getattr(node.func, "attr", None)
+
+
+def is_passing(node):
+    return isinstance(node, ast.Call) and (
+        isinstance(node.func, ast.Name) and node.func.id in PASSING
+        or isinstance(node.func, ast.Attribute) and node.func.attr in PASSING_METHODS)
+
+
+def is_set(node):
+    return isinstance(node, (ast.Set, ast.SetComp)) or isinstance(node, ast.Call) and called(node) in ("set", "frozenset")
 
 
 class FormTest(unittest.TestCase):
@@ -74,15 +112,18 @@ class FormTest(unittest.TestCase):
         for path, tree in self.trees.items():
             self.assertIsNotNone(ast.get_docstring(tree), path.name)
             bound = []
+            functions = set()
             for node in tree.body[1:]:
                 self.assertIsInstance(node, MODULE_NODES, path.name)
                 if isinstance(node, ast.ImportFrom):
                     bound += [alias.asname or alias.name for alias in node.names]
                 elif isinstance(node, ast.Assign):
-                    ast.literal_eval(node.value)
+                    self.assertTrue(is_plain(node.value, functions), f"{path.name}:{node.lineno}")
+                    self.assertEqual(len(node.targets), 1)
                     bound += [target.id for target in node.targets]
                 else:
                     bound.append(node.name)
+                    functions.add(node.name)
             self.assertEqual(len(bound), len(set(bound)), path.name)
 
     def test_imports_name_the_file_that_defines(self):
@@ -171,11 +212,84 @@ class FormTest(unittest.TestCase):
                 self.assertIsInstance(node.right, ast.Constant, where)
                 self.assertIn(node.right.value, range(65), where)
 
+    def own_methods(self):
+        return {item.name for where, node in self.nodes(ast.ClassDef) for item in node.body
+                if isinstance(item, ast.FunctionDef)}
+
+    def parents(self):
+        for where, node in self.nodes(ast.AST):
+            for child in ast.iter_child_nodes(node):
+                yield f"{where}:{getattr(child, 'lineno', 0)}", node, child
+
     def test_methods_called(self):
-        own = {node.name for where, node in self.nodes(ast.FunctionDef)}
+        own = self.own_methods()
         for where, node in self.nodes(ast.Call):
             if isinstance(node.func, ast.Attribute):
                 self.assertIn(node.func.attr, METHODS | own, where)
+            else:
+                self.assertIsInstance(node.func, ast.Name, where)
+
+    def test_methods_and_attributes_share_no_name(self):
+        methods = self.own_methods()
+        assigned = {node.attr for where, node in self.nodes(ast.Attribute) if isinstance(node.ctx, ast.Store)}
+        self.assertFalse(methods & assigned)
+        self.assertFalse((methods | assigned) & METHODS)
+        calls = {id(node.func) for where, node in self.nodes(ast.Call)}
+        for where, node in self.nodes(ast.Attribute):
+            if id(node) not in calls:
+                self.assertIn(node.attr, assigned, where)
+            if isinstance(node.ctx, ast.Store):
+                self.assertIsInstance(node.value, ast.Name, where)
+        for where, node in self.nodes(ast.ClassDef):
+            for item in node.body:
+                self.assertTrue(isinstance(item, ast.FunctionDef) or ast.get_docstring(node), where)
+                self.assertIsInstance(item, (ast.FunctionDef, ast.Expr), where)
+
+    def test_values_of_the_module_are_only_read(self):
+        for path, tree in self.trees.items():
+            tables = {node.targets[0].id for node in tree.body if isinstance(node, ast.Assign)
+                      and isinstance(node.value, (ast.List, ast.Dict))}
+            for function in tree.body:
+                for node in ast.walk(function) if isinstance(function, (ast.FunctionDef, ast.ClassDef)) else ():
+                    where = f"{path.name}:{getattr(node, 'lineno', 0)}"
+                    if isinstance(node, ast.Subscript) and not isinstance(node.ctx, ast.Load):
+                        self.assertNotIn(getattr(node.value, "id", None), tables, where)
+                    if isinstance(node, ast.Return):
+                        self.assertNotIn(getattr(node.value, "id", None), tables, where)
+                    if isinstance(node, ast.Call) and isinstance(node.func, ast.Attribute):
+                        if getattr(node.func.value, "id", None) in tables:
+                            self.assertEqual(node.func.attr, "get", where)
+
+    def test_what_passes_is_gone_through_on_the_spot(self):
+        for where, parent, child in self.parents():
+            if is_passing(child):
+                goes = isinstance(parent, (ast.For, ast.comprehension)) and parent.iter is child
+                taken = isinstance(parent, ast.Call) and called(parent) in GOERS
+                sized = isinstance(parent, ast.Call) and called(parent) == "len" and called(child) == "range"
+                self.assertTrue(goes or taken or sized, where)
+
+    def test_sets_stand_where_they_may(self):
+        for where, parent, child in self.parents():
+            if is_set(child):
+                taken = isinstance(parent, ast.Call) and called(parent) in ("sorted", "len") and not parent.keywords
+                self.assertTrue(taken or isinstance(parent, ast.Compare), where)
+
+    def test_keywords(self):
+        own = {node.name for where, node in self.nodes(ast.FunctionDef, ast.ClassDef)}
+        for where, node in self.nodes(ast.Call):
+            if node.keywords and called(node) not in own:
+                allowed = KEYWORDS.get(called(node), set())
+                self.assertTrue({keyword.arg for keyword in node.keywords} <= allowed, where)
+
+    def test_raised_on_the_spot(self):
+        errors = {node.name for node in self.trees[PACKAGE / "errors.py"].body if isinstance(node, ast.ClassDef)}
+        for where, node in self.nodes(ast.Raise):
+            self.assertIsInstance(node.exc, ast.Call, where)
+            self.assertIn(called(node.exc), errors, where)
+
+    def test_backslashes(self):
+        for path, text in self.texts.items():
+            self.assertIsNone(re.search(r"\\[^nt\\\"']", text), path.name)
 
     def test_handlers_name_errors(self):
         for where, node in self.nodes(ast.ExceptHandler):
